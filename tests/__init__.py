@@ -1,0 +1,1 @@
+"""The tests of undrawn; README.md says how to run them."""

@@ -1,0 +1,1 @@
+"""Sample large objects only where they are queried."""
