@@ -31,6 +31,15 @@ BARRED = set(
 DOUBLE = {"__init__", "__eq__", "__len__", "__repr__", "__str__"}
 STATEMENTS = (ast.FunctionDef, ast.ClassDef, ast.ImportFrom, ast.Assign)
 
+AT_ONCE = {"list", "tuple", "dict", "sorted", "sum", "any", "all", "enumerate", "zip", "min", "max", "reversed", "len"}
+KEPT = {"zip", "enumerate", "reversed", "range", "items", "keys", "values", "map"}
+BAD_ATTRIBUTES = set("items keys values pop update append clear extend insert remove reverse setdefault sort args format".split())
+
+
+def called(node):
+    """The name of what is called."""
+    return node.func.id if isinstance(node.func, ast.Name) else getattr(node.func, "attr", None)
+
 
 def sources():
     return {path.name: path.read_text(encoding="utf-8") for path in sorted(FOLDER.glob("*.py"))}
@@ -120,3 +129,65 @@ class LanguageTest(unittest.TestCase):
                 self.assertIsInstance(node.right, ast.Constant, place)
             if isinstance(node, ast.Compare) and any(isinstance(op, (ast.Is, ast.IsNot)) for op in node.ops):
                 self.assertTrue(all(isinstance(right, ast.Constant) for right in node.comparators), place)
+
+    def test_iterated_at_once(self):
+        for name, text in sources().items():
+            tree = ast.parse(text)
+            allowed = []
+            for node in ast.walk(tree):
+                if isinstance(node, (ast.For, ast.comprehension)):
+                    allowed.append(node.iter)
+                if isinstance(node, ast.Call) and isinstance(node.func, ast.Name) and node.func.id in AT_ONCE:
+                    allowed += node.args
+                if isinstance(node, ast.Compare):
+                    allowed += node.comparators
+            for node in ast.walk(tree):
+                if isinstance(node, ast.Call) and called(node) in KEPT and node not in allowed:
+                    self.fail(f"{name}:{node.lineno}")
+
+    def test_no_generators_and_no_kept_sets(self):
+        for name, text in sources().items():
+            tree = ast.parse(text)
+            allowed = [arg for node in ast.walk(tree) if isinstance(node, ast.Call) and called(node) in ("sorted", "len") for arg in node.args]
+            for node in ast.walk(tree):
+                place = f"{name}:{getattr(node, 'lineno', 0)}"
+                self.assertNotIsInstance(node, (ast.GeneratorExp, ast.Yield, ast.YieldFrom, ast.Set, ast.SetComp), place)
+                if isinstance(node, ast.Call) and called(node) == "set":
+                    self.assertIn(node, allowed, place)
+
+    def test_local_names(self):
+        for name, text in sources().items():
+            tree = ast.parse(text)
+            outer = [alias.name for node in tree.body if isinstance(node, ast.ImportFrom) for alias in node.names]
+            outer += [node.name for node in tree.body if isinstance(node, ast.ClassDef)]
+            self.assertEqual(len(outer), len(set(outer)), name)
+            for function in ast.walk(tree):
+                if isinstance(function, ast.FunctionDef):
+                    for node in ast.walk(function):
+                        if isinstance(node, ast.arg) or isinstance(node, ast.Name):
+                            for bound in bound_names(node):
+                                self.assertNotIn(bound, outer, f"{name}:{node.lineno}")
+
+    def test_attributes(self):
+        stored = {node.attr for _, node in self.each(ast.Attribute) if isinstance(node.ctx, ast.Store)}
+        methods = {part.name for _, node in self.each(ast.ClassDef) for part in node.body if isinstance(part, ast.FunctionDef)}
+        self.assertFalse(stored & BAD_ATTRIBUTES)
+        for place, node in self.each(ast.ClassDef):
+            own = {part.attr for part in ast.walk(node) if isinstance(part, ast.Attribute) and isinstance(part.ctx, ast.Store)}
+            self.assertFalse(own & {part.name for part in node.body if isinstance(part, ast.FunctionDef)}, place)
+        for place, node in self.each(ast.Attribute):
+            if isinstance(node.ctx, ast.Load):
+                self.assertIn(node.attr, stored | methods | METHODS, place)
+
+    def test_raised_errors_and_tries(self):
+        for place, node in self.each(ast.Raise, ast.Try, ast.Lambda, ast.With, ast.Match, ast.NamedExpr):
+            self.assertIsInstance(node, ast.Raise, place)
+            self.assertTrue(isinstance(node.exc, ast.Call) and isinstance(node.exc.func, ast.Name), place)
+
+    def test_tables_at_module_level(self):
+        for name, text in sources().items():
+            for node in ast.parse(text).body:
+                if isinstance(node, ast.Assign):
+                    inner = [part for part in ast.walk(node.value) if isinstance(part, (ast.List, ast.Dict)) and part is not node.value]
+                    self.assertEqual(inner, [], f"{name}:{node.lineno}")
+                    self.assertEqual(len(node.targets), 1)

@@ -1,6 +1,6 @@
-"""Products of many integers."""
+"""Products and other numbers of ways."""
 
-from math import comb
+from math import comb, factorial
 
 
 def multiply(factors, bound=None):
@@ -40,3 +40,33 @@ def multinomial(counts):
         total = total + count
         ways = ways * comb(total, count)
     return ways
+
+
+def count_moved(n, moved):
+    """The number of permutations of n integers that keep none of so many of them in its place.
+
+    By inclusion and exclusion of the integers that are kept.
+    """
+    total = 0
+    sign = 1
+    for kept in range(moved + 1):
+        total = total + sign * comb(moved, kept) * factorial(n - kept)
+        sign = -sign
+    return total
+
+
+def bounded_sums(bounds):
+    """For each sum the number of ways to reach it by one integer from 0 to each of the bounds, in a list."""
+    ways = [1]
+    for bound in bounds:
+        ways = convolve(ways, [1 for _ in range(bound + 1)])
+    return ways
+
+
+def convolve(left, right):
+    """For each sum of two indices the sum of the products of the numbers at them, in a list."""
+    result = [0 for _ in range(len(left) + len(right) - 1)]
+    for at, factor in enumerate(left):
+        for other, number in enumerate(right):
+            result[at + other] = result[at + other] + factor * number
+    return result

@@ -2,7 +2,7 @@
 
 from math import comb, factorial
 
-from undrawn.arithmetic import multinomial, multiply, raise_to
+from undrawn.arithmetic import count_moved, multinomial, multiply, raise_to
 from undrawn.automata import count_strings
 from undrawn.orders import order_size
 
@@ -84,14 +84,8 @@ def matching_size(space):
 
 
 def permutation_size(space):
-    """By inclusion and exclusion of the positions in `moved` that hold their own index."""
     n, moved = space[1:]
-    total = 0
-    sign = 1
-    for held in range(len(moved) + 1):
-        total = total + sign * comb(len(moved), held) * factorial(n - held)
-        sign = -sign
-    return total
+    return count_moved(n, len(moved))
 
 
 def tree_size(space):

@@ -28,3 +28,18 @@ def is_tuple(value, least, most):
 def is_ascending(items):
     """Whether items that can be compared ascend strictly."""
     return all([before < after for before, after in zip(items, items[1:])])
+
+
+def is_same(one, other):
+    """Whether two values are equal and of the same kinds, at any depth of tuples."""
+    if isinstance(one, tuple) and isinstance(other, tuple):
+        return len(one) == len(other) and all([is_same(a, b) for a, b in zip(one, other)])
+    # Python takes True and 1 for equal.
+    return isinstance(one, bool) == isinstance(other, bool) and one == other
+
+
+def flatten(value):
+    """The items of nested tuples from left to right, in a list."""
+    if not isinstance(value, tuple):
+        return [value]
+    return [item for part in value for item in flatten(part)]
