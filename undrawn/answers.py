@@ -71,7 +71,8 @@ def count_each(letters, row):
 def describe_arrangement(part, item, word, arguments):
     name = item[arguments[0]] if word == "entry" else arguments[0]
     place = item.index(name)
-    turns = [(count_before(order, item[:place]), index) for order, index in parallels_of(part[1], name)]
+    earlier = {other: True for other in item[:place]}
+    turns = [(count_among(order, earlier), index) for order, index in parallels_of(part[1], name)]
     if word == "entry":
         return tuple(turns), name
     return tuple([(sum(before), before) for before, _ in reversed(turns)]), place
@@ -87,8 +88,8 @@ def parallels_of(order, name):
     return [(order, index)] + deeper if word == "parallel" else deeper
 
 
-def count_before(order, names):
-    """How many of these names belong to each order in a parallel one."""
+def count_among(order, names):
+    """How many of the names in a dict belong to each order in a parallel one."""
     return tuple([len([name for name in names_of(inner) if name in names]) for inner in order[1]])
 
 

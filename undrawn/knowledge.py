@@ -28,9 +28,8 @@ class Knowledge:
         path, part = along[-1]
         return Inquiry(turns, self.model_of(path, part).outcomes(query[1:]))
 
-    def learn(self, query, answer, count):
-        """Learn an observation that matching objects give, after which so many objects match."""
-        self.count = count
+    def learn(self, query, answer):
+        """Learn an observation that matching objects give; the number of those is left to the caller."""
         selections, result = answer
         along = parts_along(self.space, query[0])
         choices = [(path, part) for path, part in along[:-1] if part[0] == "choice"]
@@ -55,6 +54,14 @@ def learn_all(space, observations):
         if steps is None:
             knowledge.count = 0
             return knowledge
-        _, count = block_of(steps, knowledge.count)
-        knowledge.learn(query, answer, count)
+        _, knowledge.count = block_of(steps, knowledge.count)
+        knowledge.learn(query, answer)
+    return knowledge
+
+
+def learn_known(space, observations, count):
+    """As `learn_all`, where it is known that so many objects match, which is not 0."""
+    knowledge = Knowledge(space, count)
+    for query, answer in observations:
+        knowledge.learn(query, answer)
     return knowledge

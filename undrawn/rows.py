@@ -60,7 +60,7 @@ class Row:
 
     def counts_before(self, place, before):
         """Options for the number of the next letter before the place, where those of the first letters are given."""
-        return self.piece_over(place, place).counts_before(place, before)
+        return self.piece_over(place, place).shares_before(place, before, None, 0)
 
     def places_of(self, letter, occurrence):
         """Options for the place of this occurrence of the letter."""
@@ -69,7 +69,7 @@ class Row:
     def counts_before_occurrence(self, letter, occurrence, place, before):
         """As `counts_before`, where this occurrence of the letter stands at the place."""
         piece = self.piece_with(letter, occurrence).with_held(place, letter)
-        return piece.counts_before(place, before, letter, occurrence)
+        return piece.shares_before(place, before, letter, occurrence)
 
     def number_before(self, place):
         """The number of possible rows of numbers of the letters before the place."""
@@ -121,8 +121,8 @@ class Piece:
             return [(self.held[place], 1)]
         return [(letter, count) for letter, count in enumerate(self.pool) if count > 0]
 
-    def counts_before(self, place, before, known=None, occurrence=0):
-        """With a known letter, so many of it as `occurrence` stand before the place."""
+    def shares_before(self, place, before, known, occurrence):
+        """Options as in `counts_before`; of the known letter, if there is one, `occurrence` stand before the place."""
         held = self.held_before(place)
         base = [low + held.count(letter) for letter, low in enumerate(self.start)]
         left = self.free_before(place)
