@@ -6,6 +6,9 @@ NONE = ("permutation", 1, (0,))
 ORDER = ("series", (("item", "a"), ("parallel", (("item", "b"), ("item", "c"), ("item", "d")))))
 EVEN = (((0, "a", 1), (0, "b", 0), (1, "a", 0), (1, "b", 1)), (0,))
 
+# From state 1 no move leads on, and from state 2 none to an accepting state.
+DEAD_ENDS = (((0, "a", 0), (0, "b", 1), (0, "c", 2), (2, "a", 2)), (0, 1))
+
 # Five letters lead from state 0 to state 1 and two lead back, so there are 10 ** n strings of length 2 * n.
 TENS = (tuple((0, letter, 1) for letter in "abcde") + ((1, "a", 0), (1, "b", 0)), (0,))
 
@@ -45,6 +48,7 @@ SMALL = {
         ("string", ((), (0,)), 0),
         ("string", ((), (0, 7)), 3),
         ("string", (((0, "a", 7), (7, "b", 0)), (7,)), 3),
+        ("string", DEAD_ENDS, 3),
         ("string", EVEN, 0),
         ("string", EVEN, 5),
         ("string", TENS, 3),

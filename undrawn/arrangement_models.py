@@ -75,7 +75,7 @@ class ArrangementModel:
 
 
 class ArrangementEntries(Outcomes):
-    """For each parallel order, outermost first, the numbers before the name and the index; then the name."""
+    """For each parallel order, outermost first, the numbers before the name and the index; so the name is known."""
 
     def __init__(self, root, place):
         self.root = root
@@ -105,7 +105,7 @@ class ArrangementEntries(Outcomes):
     def options(self, values):
         _, node, place, rest = self.descend(values)
         if node.word == "item":
-            return [(node.name, 1)] if len(rest) == 0 else None
+            return None
         if len(rest) < len(node.nodes):
             return node.row.counts_before(place, rest)
         return node.row.letters_behind(rest)

@@ -102,9 +102,7 @@ class TreeModel:
         tops = self.tops()
         rooted = tops.count(0)
         own = tops.count(node)
-        if rooted + own == self.n:
-            return equally([other for other in range(self.n) if tops[other] == 0])
-        # With s nodes below node 0 and k other trees there are s * n ** (k - 1) ways to hang these up.
+        # With s nodes in the tree of node 0 and k > 0 other ones, there are s * n ** (k - 1) ways to hang these up.
         weights = {top: rooted for top in tops}
         weights[0] = rooted + own
         return PlainOutcomes([(other, weights[top]) for other, top in enumerate(tops) if top != node])

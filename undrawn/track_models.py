@@ -1,7 +1,7 @@
 """What is known of a walk and of a string."""
 
 from undrawn.outcomes import Outcomes, PlainOutcomes
-from undrawn.tracks import Track
+from undrawn.tracks import Track, joint_ways
 
 
 class WalkModel:
@@ -53,12 +53,12 @@ class WalkModel:
 
     def steps(self, word, j):
         """Options for the time of the j-th step in a direction."""
-        to = self.track.ways_to()
-        later = self.track.ways_from(to)
+        reaching = self.track.ways_to()
+        leaving = self.track.ways_from(reaching)
         found = []
         for time in range(self.track.n):
             rise, height = self.before_step(word, j, time)
-            weight = to[time].get(height, 0) * later[time + 1].get(height + rise, 0)
+            weight = reaching[time].get(height, 0) * leaving[time + 1].get(height + rise, 0)
             if weight > 0:
                 found.append((time, weight))
         return found
@@ -70,14 +70,17 @@ class WalkVisits(Outcomes):
     def __init__(self, track, question):
         self.track = track
         self.word, self.time, self.wanted = question
+        # Found once, as there may be options for very many heights.
+        self.reaching = track.ways_to()
+        self.leaving = track.ways_from(self.reaching)
 
     def options(self, values):
         if len(values) == 0:
-            return self.track.stops_at(self.time)
+            return joint_ways(self.reaching[self.time], self.leaving[self.time])
         if len(values) == 1:
             if self.word == "first_visit":
-                return self.track.first_visits(self.time, values[0], self.wanted)
-            return self.track.last_visits(self.time, values[0], self.wanted)
+                return self.track.first_visits(self.time, values[0], self.wanted, self.leaving)
+            return self.track.last_visits(self.time, values[0], self.wanted, self.reaching)
         return None
 
     def item(self, values):

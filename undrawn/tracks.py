@@ -61,56 +61,58 @@ class Track:
             ways.append(self.step_on(time, ways[time]))
         return ways
 
-    def ways_from(self, ways_to):
-        """For each time the numbers of tracks from the stops to the end, for stops that can be reached."""
-        ways = [{stop: 1 for stop in ways_to[self.n] if stop in self.last}]
+    def ways_from(self, reaching):
+        """For each time the numbers of tracks from the stops to the end, for stops that `ways_to` has."""
+        ways = [{stop: 1 for stop in reaching[self.n] if stop in self.last}]
         for time in reversed(range(self.n)):
-            ways.append(self.step_back(time, ways_to[time], ways[-1]))
+            ways.append(self.step_back(time, reaching[time], ways[-1]))
         return list(reversed(ways))
 
     def stops_at(self, time):
         """Options for the stop at the time."""
-        to = self.ways_to()
-        found = self.ways_from(to)[time]
-        return [(stop, to[time][stop] * found[stop]) for stop in sorted(found)]
+        reaching = self.ways_to()
+        return joint_ways(reaching[time], self.ways_from(reaching)[time])
 
     def labels_at(self, time):
         """Options for the label of the move at the time."""
-        to = self.ways_to()
-        later = self.ways_from(to)[time + 1]
+        reaching = self.ways_to()
+        leaving = self.ways_from(reaching)[time + 1]
         weights = {}
-        for stop, many in to[time].items():
+        for stop, many in reaching[time].items():
             for label, reached in self.moves_from(time, stop):
-                weights[label] = weights.get(label, 0) + many * later.get(reached, 0)
+                weights[label] = weights.get(label, 0) + many * leaving.get(reached, 0)
         return [(label, weights[label]) for label in sorted(weights) if weights[label] > 0]
 
-    def first_visits(self, time, stop, wanted):
+    def first_visits(self, time, stop, wanted, leaving):
         """Options for the first time from `time` on, where the track is at `stop`, at which it is at the wanted stop.
 
-        A time stands in a tuple, and an empty tuple says that there is none.
+        A time stands in a tuple, and an empty tuple says that there is none. `leaving` is what `ways_from` returns.
         """
-        found = self.ways_from(self.ways_to())
         ways = {stop: 1}
         times = []
         for at in range(time, self.n + 1):
             if wanted in ways:
-                times.append(((at,), ways[wanted] * found[at].get(wanted, 0)))
+                times.append(((at,), ways[wanted] * leaving[at].get(wanted, 0)))
             ways = {there: many for there, many in ways.items() if there != wanted}
             if at < self.n:
                 ways = self.step_on(at, ways)
         never = sum([many for there, many in ways.items() if there in self.last])
         return [pair for pair in [((), never)] + times if pair[1] > 0]
 
-    def last_visits(self, time, stop, wanted):
-        """As `first_visits`, for the last time up to `time`."""
-        to = self.ways_to()
+    def last_visits(self, time, stop, wanted, reaching):
+        """As `first_visits`, for the last time up to `time`. `reaching` is what `ways_to` returns."""
         ways = {stop: 1}
         times = []
         for at in reversed(range(time + 1)):
             if wanted in ways:
-                times.append(((at,), ways[wanted] * to[at].get(wanted, 0)))
+                times.append(((at,), ways[wanted] * reaching[at].get(wanted, 0)))
             ways = {there: many for there, many in ways.items() if there != wanted}
             if at > 0:
-                ways = self.step_back(at - 1, to[at - 1], ways)
+                ways = self.step_back(at - 1, reaching[at - 1], ways)
         never = ways.get(self.start, 0)
         return [pair for pair in [((), never)] + list(reversed(times)) if pair[1] > 0]
+
+
+def joint_ways(reaching, leaving):
+    """Options for the stop at a time, by the numbers of tracks to the stops and of those from them."""
+    return [(stop, reaching[stop] * leaving[stop]) for stop in sorted(leaving)]
