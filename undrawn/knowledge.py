@@ -48,15 +48,23 @@ class Knowledge:
 
 def learn_all(space, observations):
     """What the observations say. If they contradict each other, the count is 0 and the rest is without meaning."""
+    knowledge, _ = learn_in_order(space, observations)
+    return knowledge
+
+
+def learn_in_order(space, observations):
+    """As `learn_all`, and the first seed with which a new sampler makes the observations in their order."""
     knowledge = Knowledge(space, size_of(space))
+    first = 0
     for query, answer in observations:
         steps = steps_to(knowledge.inquire(query), answer) if knowledge.count > 0 else None
         if steps is None:
             knowledge.count = 0
-            return knowledge
-        _, knowledge.count = block_of(steps, knowledge.count)
+            return knowledge, 0
+        start, knowledge.count = block_of(steps, knowledge.count)
+        first = first + start
         knowledge.learn(query, answer)
-    return knowledge
+    return knowledge, first
 
 
 def learn_known(space, observations, count):

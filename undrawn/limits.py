@@ -38,3 +38,6 @@ DEEPEST = 6
 MOST_PARTS = 40
 
 LONGEST_NAME = 6
+
+# Users of a shared sampler.
+MOST_USERS = 6

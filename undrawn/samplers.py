@@ -5,7 +5,7 @@ from undrawn.errors import InvalidAction, InvalidObservation, InvalidQuery, Inva
 from undrawn.errors import InvalidSpace, NoMatch
 from undrawn.inquiries import answer_for, block_of, count_around, steps_to
 from undrawn.knowledge import learn_all, learn_known
-from undrawn.observations import may_observe
+from undrawn.observations import find_wrong
 from undrawn.queries import is_query
 from undrawn.spaces import is_space
 from undrawn.values import is_between, is_tuple
@@ -114,12 +114,9 @@ def learn_checked(space, observations):
     """What the observations say, where both arguments may be any values."""
     if not is_space(space):
         raise InvalidSpace(space)
-    if not isinstance(observations, tuple):
-        raise InvalidObservation(-1)
-    nothing = learn_all(space, ())
-    for index, value in enumerate(observations):
-        if not may_observe(nothing, value):
-            raise InvalidObservation(index)
+    index = find_wrong(space, observations)
+    if index is not None:
+        raise InvalidObservation(index)
     knowledge = learn_all(space, observations)
     if knowledge.count == 0:
         raise NoMatch(observations)

@@ -1,0 +1,15 @@
+"""Decimal integers in texts."""
+
+
+def is_natural(word):
+    """Whether a string is an integer from 0 on, without a sign and without leading zeros."""
+    if word[:1] in ("", "0"):
+        return word == "0"
+    return all(["0" <= digit <= "9" for digit in word])
+
+
+def is_numeral(word):
+    """The same for any integer, where a negative one has a sign."""
+    if word[:1] == "-":
+        return is_natural(word[1:]) and word != "-0"
+    return is_natural(word)
