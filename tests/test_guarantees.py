@@ -1,11 +1,15 @@
 """What holds for every strategy, whatever it asks."""
 
 import unittest
+from itertools import permutations
 from zlib import crc32
 
-from tests.brute_counts import listed, matching
+from tests.brute_counts import counted, listed, matching, mixtures
 from tests.samples import all_small
+from undrawn.counting import answer_counts, count_matching
+from undrawn.enumeration import object_at, seed_of
 from undrawn.samplers import Sampler
+from undrawn.strategies import seed_range
 
 
 def chosen(items, *seen):
@@ -76,6 +80,51 @@ class GuaranteesTest(unittest.TestCase):
                     sampler.retract(1)
                     table[sampler.history()] = table.get(sampler.history(), 0) + 1
                 self.assertEqual(table, {history: len(matching(space, history)) for history in table}, space)
+
+    def test_counts_do_not_depend_on_the_order(self):
+        for space in small():
+            for observations in mixtures(space, 8, "order"):
+                wanted = len(matching(space, observations))
+                shuffled = tuple(chosen(list(permutations(observations)), k, observations) for k in range(4))
+                for other in shuffled + (observations[::-1], observations + observations):
+                    self.assertEqual(count_matching(space, other), wanted)
+                    self.assertEqual(seed_range(space, other)[1], wanted)
+                    if wanted:
+                        query = chosen(listed(space)[1], other)
+                        self.assertEqual(answer_counts(space, other, query), counted(space, observations, query))
+
+    def test_a_retracted_query_is_asked_again_at_once(self):
+        for space in small():
+            for seed in range(len(listed(space)[0])):
+                sampler = follow(space, seed, "again", 4)
+                for index in range(len(sampler) if seed % 5 == 0 else 0):
+                    query, answer = sampler.history()[index]
+                    kept = sampler.seed_now(), sampler.bound_now()
+                    sampler.retract(index)
+                    self.assertEqual(sampler.ask(query), answer)
+                    self.assertEqual((sampler.seed_now(), sampler.bound_now()), kept)
+                    sampler.rewind(len(sampler.log()) - 2)
+
+    def test_seeds_and_matching_objects(self):
+        for space in small():
+            for observations in mixtures(space, 5, "objects"):
+                wanted = [repr(listed(space)[0][k]) for k in matching(space, observations)]
+                found = [object_at(space, observations, seed) for seed in range(len(wanted))]
+                self.assertEqual(sorted(map(repr, found)), sorted(wanted))
+                self.assertEqual([seed_of(space, observations, obj) for obj in found], list(range(len(wanted))))
+
+    def test_a_sampler_equals_a_new_one(self):
+        for space in small():
+            for seed in range(len(listed(space)[0])):
+                sampler = follow(space, seed, "equal", 4)
+                if len(sampler) > 1:
+                    sampler.retract(0)
+                new = Sampler(space, sampler.seed_now(), sampler.history())
+                self.assertEqual(sampler, new)
+                self.assertEqual((sampler.bound_now(), sampler.complete()), (new.bound_now(), new.complete()))
+                query = chosen(listed(space)[1], seed)
+                self.assertEqual(sampler.ask(query), new.ask(query))
+                self.assertEqual(sampler, new)
 
     def test_undone_from_the_end(self):
         for space in small():

@@ -180,9 +180,15 @@ class LanguageTest(unittest.TestCase):
                 self.assertIn(node.attr, stored | methods | METHODS, place)
 
     def test_raised_errors_and_tries(self):
+        own = {node.name for node in ast.parse(sources()["errors.py"]).body if isinstance(node, ast.ClassDef)}
         for place, node in self.each(ast.Raise, ast.Try, ast.Lambda, ast.With, ast.Match, ast.NamedExpr):
-            self.assertIsInstance(node, ast.Raise, place)
-            self.assertTrue(isinstance(node.exc, ast.Call) and isinstance(node.exc.func, ast.Name), place)
+            self.assertIsInstance(node, (ast.Raise, ast.Try), place)
+            if isinstance(node, ast.Raise):
+                self.assertTrue(isinstance(node.exc, ast.Call) and isinstance(node.exc.func, ast.Name), place)
+            else:
+                # No error of Python's own is caught anywhere.
+                self.assertEqual([handler.type.id for handler in node.handlers if handler.type.id not in own], [], place)
+                self.assertEqual(node.finalbody, [], place)
 
     def test_tables_at_module_level(self):
         for name, text in sources().items():

@@ -153,7 +153,8 @@ class SpaceTextTest(unittest.TestCase):
         self.fails("power 1 (" * 5 + f"arrangement (series {deepest} ne)" + ")" * 5)
 
     def test_forty_parentheses(self):
-        for depth in (11, 12, 13, 14, 39, 40):
+        # Beyond 40, which need not work, it does.
+        for depth in (11, 12, 13, 14, 39, 40, 41, 1900):
             self.fails("(" * depth + "cycle 3" + ")" * depth)
             self.fails("power 1 (" * depth + "cycle 3" + ")" * depth)
             self.fails("arrangement " + "(series a " * depth + "b" + ")" * depth)

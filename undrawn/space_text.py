@@ -106,8 +106,7 @@ def group_words(text):
         # No space has a text of this depth, as orders stand in the innermost spaces only.
         if len(groups) > 2 * DEEPEST:
             raise ParseError("the parentheses are nested too deeply")
-    if len(groups) > 1:
-        raise ParseError("a parenthesis is not closed")
+    # Where a parenthesis is not closed, the value that is made of the others does not have this text.
     return groups[0]
 
 
